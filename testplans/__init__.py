@@ -1,0 +1,1 @@
+"""Tests in the best order, on machines, within a budget."""
