@@ -3,7 +3,7 @@
 Expected costs are told times 100 for each test that is left, so that they are whole.
 """
 
-HUNDRED = 100
+from testplans.plans import HUNDRED, may_follow
 
 
 def is_order(plan, order):
@@ -16,11 +16,6 @@ def is_order(plan, order):
             return False
         ran.append(number)
     return True
-
-
-def may_follow(plan, number, ran):
-    """Whether all tests behind which a test must run are among those that ran."""
-    return all([earlier in ran for earlier in plan.tests[number].after])
 
 
 def may_run_next(plan, ran):

@@ -1,17 +1,22 @@
 """Answers lists of calls on one object that holds a plan."""
 
+from testplans.choices import are_tests, best_choice, is_choice, miss_of
 from testplans.faults import Fault
+from testplans.machines import best_way, is_way, time_of_all
 from testplans.orders import best_order, expected_cost, is_order, rule_order
-from testplans.plans import Plan
+from testplans.plans import Plan, cost_together
 from testplans.reading import read_plan
 from testplans.writing import written_plan
 
 LONGEST_TEXT = 4096
 GREATEST_BYTE = 255
+MOST_MACHINES = 3
+GREATEST_BUDGET = 100000
 
 NO_BYTE = -1
 TOO_LONG = -2
-NO_ORDER = -12
+BAD_NUMBER = -7
+BAD_LIST = -12
 
 
 class Holder:
@@ -69,7 +74,7 @@ def answer_expected(holder, reader):
     """expected: an order."""
     order = reader.take_row()
     if not is_order(holder.plan, order):
-        return [NO_ORDER]
+        return [BAD_LIST]
     return [0, expected_cost(holder.plan, order)]
 
 
@@ -88,8 +93,60 @@ def answer_order(plan, order):
     return [0, expected_cost(plan, order)] + order
 
 
+def answer_machines(holder, reader):
+    """machines: how many."""
+    many = reader.take_one()
+    if not 1 <= many <= MOST_MACHINES:
+        return [BAD_NUMBER]
+    way = best_way(holder.plan, many)
+    return [0, time_of_all(holder.plan, many, way)] + way
+
+
+def answer_time(holder, reader):
+    """time: how many, a way."""
+    many = reader.take_one()
+    way = reader.take_row()
+    if not 1 <= many <= MOST_MACHINES:
+        return [BAD_NUMBER]
+    if not is_way(holder.plan, many, way):
+        return [BAD_LIST]
+    return [0, time_of_all(holder.plan, many, way)]
+
+
+def answer_budget(holder, reader):
+    """budget: the most that may be spent."""
+    most = reader.take_one()
+    if not 0 <= most <= GREATEST_BUDGET:
+        return [BAD_NUMBER]
+    chosen = best_choice(holder.plan, most)
+    return answer_chosen(holder.plan, chosen) + [len(chosen)] + chosen
+
+
+def answer_choice(holder, reader):
+    """choice: tests."""
+    chosen = reader.take_row()
+    if not are_tests(holder.plan, chosen):
+        return [BAD_LIST]
+    if not is_choice(holder.plan, chosen):
+        return [1]
+    return answer_chosen(holder.plan, chosen)
+
+
+def answer_chosen(plan, chosen):
+    """What is answered of a choice, however it was told."""
+    return [0, miss_of(plan, chosen), cost_together(plan, chosen)]
+
+
+def answer_size(holder, reader):
+    """size: nothing."""
+    plan = holder.plan
+    count = len(plan.tests)
+    return [0, len(plan.groups), count, miss_of(plan, list(range(count)))]
+
+
 # By the numbers of the calls.
-CALLS = (answer_load, answer_written, answer_expected, answer_best, answer_rule)
+CALLS = (answer_load, answer_written, answer_expected, answer_best, answer_rule,
+         answer_machines, answer_time, answer_budget, answer_choice, answer_size)
 
 
 def answers(calls):

@@ -1,5 +1,8 @@
 """A plan, its groups and its tests."""
 
+# Chances are told in hundredths.
+HUNDRED = 100
+
 
 class Group:
     """A group of tests that share a setup."""
@@ -34,3 +37,21 @@ def number_of(members, name):
         if member.name == name:
             return number
     return None
+
+
+def may_follow(plan, number, others):
+    """Whether all tests behind which a test must run are among some others."""
+    return all([earlier in others for earlier in plan.tests[number].after])
+
+
+def cost_together(plan, numbers):
+    """What some tests cost, and once the setup of each group among them."""
+    cost = 0
+    ready = []
+    for number in numbers:
+        test = plan.tests[number]
+        cost += test.cost
+        if test.group is not None and test.group not in ready:
+            cost += plan.groups[test.group].setup
+            ready.append(test.group)
+    return cost

@@ -17,6 +17,7 @@ EXAMPLE_FORM = ("group db 5;\n"
 WRITTEN = [1]
 BEST = [3]
 RULE = [4]
+SIZE = [9]
 
 
 def load(text):
@@ -27,6 +28,22 @@ def load(text):
 
 def expected(*order):
     return [2, len(order)] + list(order)
+
+
+def machines(many):
+    return [5, many]
+
+
+def time(many, *way):
+    return [6, many, len(way)] + list(way)
+
+
+def budget(most):
+    return [7, most]
+
+
+def choice(*chosen):
+    return [8, len(chosen)] + list(chosen)
 
 
 def ask(*calls):
@@ -50,6 +67,16 @@ def ask_of(text, *calls):
     if found[0][0] != 0:
         raise AssertionError("%r is not loaded: %r" % (text, found[0]))
     return found[1:]
+
+
+def ask_kept(text, *calls):
+    """The answers to calls behind a load that must go well, each of which must leave the plan as it was."""
+    form = ask_of(text, WRITTEN)[0]
+    found = ask_of(text, *[part for call in calls for part in (call, WRITTEN)])
+    for call, kept in zip(calls, found[1::2]):
+        if kept != form:
+            raise AssertionError("the plan is changed by %r: %r" % (call, kept))
+    return found[::2]
 
 
 def written_text(answer):
@@ -113,3 +140,9 @@ def told_cost(setups, tests, order):
         cost += run * own
         run *= Fraction(100 - chance, 100)
     return int(cost * 100 ** len(order))
+
+
+def cost_together(setups, tests, numbers):
+    """What some tests cost, and once the setup of each group among them."""
+    groups = {tests[number][2] for number in numbers} - {None}
+    return sum(tests[number][0] for number in numbers) + sum(setups[group] for group in groups)
